@@ -1,0 +1,1 @@
+"""Looksleft: what a few looks into the copies of a store still tell."""
