@@ -83,3 +83,43 @@ class Search:
         for deed, after in self.table[state]:
             for script, states in self.histories(after):
                 yield [deed] + script, [state] + states
+
+    def ends(self, looks, minded=True):
+        """The books of all histories that fit the looks, their moments minded or not."""
+        moments = sorted({look.moment for look in looks if look.moment is not None}) if minded else []
+        known = {}
+
+        def ends_from(state, done):
+            if (state, done) not in known:
+                known[(state, done)] = search(state, done)
+            return known[(state, done)]
+
+        def search(state, done):
+            if not all(may_begin(look, state[look.house]) for look in looks):
+                return frozenset()
+            found = set()
+            if not self.table[state] and done == len(moments):
+                found.add(state)
+            for _, after in self.table[state]:
+                found |= ends_from(after, done)
+            if done < len(moments) and all(set(state[look.house]) == come(look) for look in looks
+                                           if look.moment == moments[done]):
+                found |= ends_from(state, done + 1)
+            return frozenset(found)
+
+        return ends_from(self.first, 0)
+
+
+def come(look):
+    return {write for lot in look.lots for write in lot}
+
+
+def may_begin(look, book):
+    """Whether a book that has come so far can still go on as the lots of the look tell."""
+    at = 0
+    for lot in look.lots:
+        part = book[at:at + len(lot)]
+        if not set(part) <= set(lot):
+            return False
+        at += len(lot)
+    return True

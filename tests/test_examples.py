@@ -6,7 +6,7 @@ import unittest
 from looksleft import errors
 
 FOLDER = pathlib.Path(__file__).parent / "examples"
-NAMES = ["trees", "stores", "running"]
+NAMES = ["trees", "stores", "running", "books", "looks", "pictures", "histories"]
 
 
 def steps(text):

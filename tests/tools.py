@@ -3,6 +3,7 @@
 import copy
 import unittest
 
+from looksleft.looks import Look
 from looksleft.running import Running
 from looksleft.stores import Store
 from looksleft.trees import Tree
@@ -36,7 +37,8 @@ def odd_values():
             ("one", 0, 1, 0, 1), ("three", 0, ((0, 0),) * 3, (0, 1, 0)), ("time", 0, 1, 0), ("make", 0), ["make", 0],
             [("make", 0)], [("make", True)], [["make", 0]], [("hand", 0, 1)], [("hand", 0, 2)], [("make", 0, 1)],
             ([], [], []), ([[0], [0]], [], []), [1, 2, 3], (1, 2, 3), [[1], [1], [1]], {"own": 1}, nested(8),
-            tree, store, Running(store), [tree], [store], [Running(store)]]
+            tree, store, Look(0, [[0]], moment=1), Look(1, []), Running(store), [tree], [store], [Look(0, [[1]])],
+            (Look(9, []),), [Running(store)], {"look": Look(0, [])}, [Look(0, [])] * 10]
 
 
 class LooksleftCase(unittest.TestCase):
