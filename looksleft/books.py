@@ -107,7 +107,7 @@ def least_moments(store, books):
     many = 0
     while many < len(books) * len(store):
         for house in range(len(books)):
-            many += _take_lines(store, books, came, house)
+            many = many + _take_lines(store, books, came, house)
     return [[came[house][write] for write in book] for house, book in enumerate(books)]
 
 

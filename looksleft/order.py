@@ -11,7 +11,7 @@ def bits_of(writes):
     """The bits of a lot of writes."""
     bits = 0
     for write in writes:
-        bits |= 1 << write
+        bits = bits | 1 << write
     return bits
 
 
@@ -25,7 +25,7 @@ def passing(store, target):
     over = [0] * store.tree.houses
     for write, home in enumerate(store.homes):
         for house in way(store.tree, home, target):
-            over[house] |= 1 << write
+            over[house] = over[house] | 1 << write
     return over
 
 
@@ -44,14 +44,14 @@ def add_arrows(store, table, look):
         bits = bits_of(ahead)
         for z in [write for write in range(len(store)) if write not in ahead]:
             for house in range(store.tree.houses):
-                table[house][z] |= bits & over[house]
+                table[house][z] = table[house][z] | bits & over[house]
 
 
 def _ahead_within_two(row, z):
     """The bits of the writes from which one or two of a house's arrows lead to z."""
     bits = row[z]
     for write in writes_of(row[z]):
-        bits |= row[write]
+        bits = bits | row[write]
     return bits
 
 
@@ -60,7 +60,7 @@ def surely_ahead(store, table, house):
     found = [bits_of([x for x in range(z) if store.homes[x] == home]) for z, home in enumerate(store.homes)]
     for z, home in enumerate(store.homes):
         for passed in way(store.tree, home, house):
-            found[z] |= _ahead_within_two(table[passed], z)
+            found[z] = found[z] | _ahead_within_two(table[passed], z)
     return found
 
 
@@ -68,7 +68,7 @@ def with_all_ahead(sure, bits):
     """The bits of a lot together with all writes that are surely ahead of its writes."""
     closed = bits
     for write in writes_of(bits):
-        closed |= sure[write]
+        closed = closed | sure[write]
     return closed
 
 
@@ -80,7 +80,7 @@ def least_row(sure):
         # Being surely ahead is an order, so that some write always has all it needs.
         ready = [z for z in range(len(sure)) if not bits >> z & 1 and sure[z] & bits == sure[z]]
         row.append(ready[0])
-        bits |= 1 << ready[0]
+        bits = bits | 1 << ready[0]
     return row
 
 
@@ -102,5 +102,5 @@ def least_bits(store, looks, sure, house, moment):
     bits = 0
     for look in looks:
         if look.moment is not None and look.moment <= moment:
-            bits |= bits_of(look.come) & passing(store, look.house)[house]
+            bits = bits | bits_of(look.come) & passing(store, look.house)[house]
     return with_all_ahead(sure, bits)

@@ -12,7 +12,7 @@ BUILTINS = {"len", "range", "enumerate", "zip", "min", "max", "sum", "abs", "sor
 DOUBLE = {"__init__", "__eq__", "__len__", "__iter__", "__contains__"}
 BARRED = (ast.Lambda, ast.GeneratorExp, ast.Yield, ast.YieldFrom, ast.Global, ast.Nonlocal, ast.AsyncFunctionDef, ast.Await,
           ast.With, ast.Match, ast.AnnAssign, ast.Div, ast.Starred, ast.Delete)
-METHODS = set("""append clear copy count endswith extend find get index insert isdigit items join keys partition pop
+METHODS = set("""append clear copy count endswith find get index insert isdigit items join keys partition pop
 remove replace reverse split startswith strip values bit_length isascii""".split())
 
 
@@ -49,6 +49,13 @@ class TestLanguage(unittest.TestCase):
             self.assertNotIsInstance(node.value, float, f"{name}:{node.lineno}")
         for name, node in nodes(ast.FunctionDef):
             self.assertIn([decorator.id for decorator in node.decorator_list], ([], ["property"]), f"{name}: {node.name}")
+
+    def test_nothing_is_added_to_what_it_came_from(self):
+        # L5 Iteration and L23: where `+=` gets literal integers alone, it never gets what it changes.
+        for name, node in nodes(ast.AugAssign):
+            self.assertIsInstance(node.op, (ast.Add, ast.Sub), f"{name}:{node.lineno}")
+            self.assertIsInstance(node.value, ast.Constant, f"{name}:{node.lineno}")
+            self.assertIs(type(node.value.value), int, f"{name}:{node.lineno}")
 
     def test_module_level(self):
         for path, tree in files().items():
