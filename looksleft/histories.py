@@ -4,8 +4,8 @@ from looksleft.books import book_fault, deed_of, is_books, lines_in_order
 from looksleft.checks import is_between, is_list
 from looksleft.errors import Stopped
 from looksleft.looks import Look, borders, check_looks
-from looksleft.order import arrow_table, fill_books, least_bits, surely_ahead, writes_of
-from looksleft.pictures import check_fit
+from looksleft.order import fill_books, least_bits, sure_everywhere, writes_of
+from looksleft.pictures import check_looks_fit
 from looksleft.running import is_script, run
 
 
@@ -23,8 +23,12 @@ def _begins_with(book, ahead):
 
 def history(store, looks):
     """The tuple of the books, the script and the places of a history that fits the looks."""
-    check_looks(store, looks)
-    check_fit(store, looks)
+    check_looks_fit(store, looks)
+    return find_history(store, looks)
+
+
+def find_history(store, looks):
+    """The tuple that history returns, for looks that fit, of which there may be any number."""
     moments = sorted({look.moment for look in looks if look.moment is not None})
     books, script, stops = history_by_cuts(store, looks, _least_cuts(store, looks, moments))
     stop_of = dict(zip(moments, stops))
@@ -33,8 +37,7 @@ def history(store, looks):
 
 def _least_cuts(store, looks, moments):
     """For each moment the list of the bits of the least lots that can have come to all houses."""
-    table = arrow_table(store, looks)
-    sure = [surely_ahead(store, table, house) for house in range(store.tree.houses)]
+    sure = sure_everywhere(store, looks)
     return [[least_bits(store, looks, sure[house], house, moment) for house in range(store.tree.houses)]
             for moment in moments]
 

@@ -20,6 +20,11 @@ def writes_of(bits):
     return [write for write in range(bits.bit_length()) if bits >> write & 1]
 
 
+def pairs_of(row):
+    """The tuples (x, z) for all bits x of all items z of a row of bits."""
+    return [(x, z) for z, bits in enumerate(row) for x in writes_of(bits)]
+
+
 def passing(store, target):
     """For each house the bits of the writes for which it is on the way from their home to the target."""
     over = [0] * store.tree.houses
@@ -64,6 +69,17 @@ def surely_ahead(store, table, house):
     return found
 
 
+def sure_at(store, looks, house):
+    """What surely_ahead tells of a house by looks that fit."""
+    return surely_ahead(store, arrow_table(store, looks), house)
+
+
+def sure_everywhere(store, looks):
+    """For each house what surely_ahead tells of it by looks that fit."""
+    table = arrow_table(store, looks)
+    return [surely_ahead(store, table, house) for house in range(store.tree.houses)]
+
+
 def with_all_ahead(sure, bits):
     """The bits of a lot together with all writes that are surely ahead of its writes."""
     closed = bits
@@ -72,15 +88,19 @@ def with_all_ahead(sure, bits):
     return closed
 
 
+def ready_writes(sure, bits):
+    """The writes outside a lot for which all that are surely ahead of them are in it."""
+    return [z for z in range(len(sure)) if not bits >> z & 1 and sure[z] & bits == sure[z]]
+
+
 def least_row(sure):
     """The least row of all writes that keeps what is surely ahead."""
     row = []
     bits = 0
     while len(row) < len(sure):
-        # Being surely ahead is an order, so that some write always has all it needs.
-        ready = [z for z in range(len(sure)) if not bits >> z & 1 and sure[z] & bits == sure[z]]
-        row.append(ready[0])
-        bits = bits | 1 << ready[0]
+        # Being surely ahead is an order, so that some write is always ready.
+        row.append(ready_writes(sure, bits)[0])
+        bits = bits | 1 << row[-1]
     return row
 
 

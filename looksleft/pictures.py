@@ -3,7 +3,7 @@
 from looksleft.checks import is_between
 from looksleft.errors import DoNotFit
 from looksleft.looks import borders, check_looks
-from looksleft.order import arrow_table, passing, writes_of
+from looksleft.order import arrow_table, pairs_of, passing, writes_of
 from looksleft.stores import is_write
 from looksleft.trees import check_house, way
 
@@ -28,7 +28,7 @@ def is_arrow(store, looks, house, border, x, z):
     return x in ahead and z not in ahead and house in way(store.tree, store.homes[x], look.house)
 
 
-def _arrow_border(store, looks, house, x, z):
+def arrow_border(store, looks, house, x, z):
     """The first border by which an arrow leads from x to z at the house."""
     for border in _all_borders(looks):
         if is_arrow(store, looks, house, border, x, z):
@@ -136,23 +136,18 @@ def _find_own(store, looks):
 def _find_two_or_three(store, looks):
     table = arrow_table(store, looks)
     for house, row in enumerate(table):
-        for x, y in _pairs(row):
+        for x, y in pairs_of(row):
             if row[x] >> y & 1:
-                border = _arrow_border(store, looks, house, x, y)
-                return ("two", border, _arrow_border(store, looks, house, y, x), x, y)
+                border = arrow_border(store, looks, house, x, y)
+                return ("two", border, arrow_border(store, looks, house, y, x), x, y)
     for house, row in enumerate(table):
-        for x, y in _pairs(row):
+        for x, y in pairs_of(row):
             for z in writes_of(row[x]):
                 if row[z] >> y & 1:
                     ring = ((x, y), (y, z), (z, x))
-                    three = tuple([_arrow_border(store, looks, house, first, second) for first, second in ring])
+                    three = tuple([arrow_border(store, looks, house, first, second) for first, second in ring])
                     return ("three", house, three, (x, y, z))
     return None
-
-
-def _pairs(row):
-    """The tuples (x, y) of writes for which an arrow leads from x to y."""
-    return [(x, y) for y, bits in enumerate(row) for x in writes_of(bits)]
 
 
 def _find_time(store, looks):
@@ -171,7 +166,19 @@ def looks_fit(store, looks):
 
 
 def check_fit(store, looks):
-    """Refuse looks that do not fit."""
+    """Refuse looks of the store that do not fit."""
     found = find_picture(store, looks)
     if found is not None:
         raise DoNotFit(found)
+
+
+def check_looks_fit(store, looks):
+    """Refuse a value that is not a list of looks of the store, and looks that do not fit."""
+    check_looks(store, looks)
+    check_fit(store, looks)
+
+
+def check_asked(store, looks, house):
+    """Refuse what check_looks_fit refuses, and a value that is not a house."""
+    check_looks_fit(store, looks)
+    check_house(store.tree, house)

@@ -1,7 +1,7 @@
 """Stores: a tree of houses, and writes with their homes and cells."""
 
-from looksleft.checks import are_between, is_between, read_pair
-from looksleft.errors import InvalidCell, InvalidCells, InvalidHomes, InvalidLine
+from looksleft.checks import are_between, are_different, is_between, read_pair
+from looksleft.errors import InvalidCell, InvalidCells, InvalidHomes, InvalidLine, InvalidLot, InvalidWrite
 from looksleft.trees import check_house, read_tree
 
 MOST_WRITES = 12
@@ -36,6 +36,23 @@ class Store:
 def is_write(store, value):
     """Whether a value is a write of the store."""
     return is_between(value, 0, len(store) - 1)
+
+
+def check_write(store, write):
+    """Refuse a value that is not a write of the store."""
+    if not is_write(store, write):
+        raise InvalidWrite(write)
+
+
+def is_lot(store, value):
+    """Whether a value is a list of different writes of the store."""
+    return are_between(value, 0, len(store) - 1) and are_different(value)
+
+
+def check_lot(store, lot):
+    """Refuse a value that is not a list of different writes of the store."""
+    if not is_lot(store, lot):
+        raise InvalidLot(lot)
 
 
 def made_in(store, house):

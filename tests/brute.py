@@ -109,6 +109,59 @@ class Search:
 
         return ends_from(self.first, 0)
 
+    @functools.cached_property
+    def sources(self):
+        """For each state the states from which one deed leads to it."""
+        found = {state: [] for state in self.table}
+        for state, further in self.table.items():
+            for _, after in further:
+                found[after].append(state)
+        return found
+
+    def leading_to(self, ends):
+        """All states from which some of the ends can still be reached."""
+        found = set(ends)
+        todo = list(found)
+        while todo:
+            for state in self.sources[todo.pop()]:
+                if state not in found:
+                    found.add(state)
+                    todo.append(state)
+        return found
+
+    def cuts(self, looks, asked):
+        """All states where a place for the asked moment can be in a history that fits the looks."""
+        moments = sorted({look.moment for look in looks if look.moment is not None} | {asked})
+        steps = {}
+        todo = [(self.first, 0)]
+        while todo:
+            node = todo.pop()
+            if node not in steps:
+                steps[node] = list(self.further(looks, moments, node))
+                todo += steps[node]
+        right = {(state, len(moments)) for state in self.last if (state, len(moments)) in steps}
+        for node in sorted(steps, key=lambda node: (node[1], sum(map(len, node[0]))), reverse=True):
+            if any(after in right for after in steps[node]):
+                right.add(node)
+        at = moments.index(asked)
+        return {state for state, done in right if done == at and (state, at + 1) in right and (state, at + 1) in steps[(state, at)]}
+
+    def further(self, looks, moments, node):
+        """The nodes (state, number of moments that are past) behind a node."""
+        state, done = node
+        for _, after in self.table[state]:
+            if all(may_begin(look, after[look.house]) for look in looks):
+                yield after, done
+        if done < len(moments) and all(set(state[look.house]) == come(look) for look in looks if look.moment == moments[done]):
+            yield state, done + 1
+
+
+def surely(ends, house):
+    """All (x, z) of which x is ahead of z in the book of the house in each of the ends."""
+    writes = range(len(next(iter(ends))[house]))
+    places = [{write: at for at, write in enumerate(end[house])} for end in ends]
+    return [(x, z) for x in writes for z in writes if all(place[x] < place[z] for place in places)]
+
 
 def come(look):
     return {write for lot in look.lots for write in lot}

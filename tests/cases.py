@@ -20,6 +20,14 @@ def searches():
     return [brute.Search(store) for store in stores]
 
 
+@functools.lru_cache(maxsize=None)
+def greater_searches():
+    """Stores with four writes, each with the search through all its states, of which there are more."""
+    stores = [Store(star_tree(4), [1, 2, 3, 0]), Store(line_tree(4), [0, 3, 1, 2]), Store(line_tree(3), [0, 2, 1, 0]),
+              Store(star_tree(4), [1, 2, 3, 1])]
+    return [brute.Search(store) for store in stores]
+
+
 def in_lots(chooser, writes, apart):
     lots = []
     for write in writes:
@@ -76,3 +84,25 @@ def some_looks(seed, many):
         search = chooser.choice(searches())
         make = chooser.choice([looks_of_one_history, looks_of_any_kind])
         yield search, make(chooser, search)
+
+
+def fitting_looks(seed, many, greater=0):
+    """Tuples (search, looks, ends) with looks that fit and the books of all histories that fit them."""
+    for search, looks in some_looks(seed, many):
+        ends = search.ends(looks)
+        if ends:
+            yield search, looks, ends
+    chooser = random.Random(seed)
+    for _ in range(greater):
+        search = chooser.choice(greater_searches())
+        looks = looks_of_one_history(chooser, search)
+        ends = search.ends(looks)
+        if ends:
+            yield search, looks, ends
+
+
+def unfit_looks(seed, many):
+    """Tuples (store, looks) with looks that do not fit."""
+    for search, looks in some_looks(seed, many):
+        if not search.ends(looks):
+            yield search.store, looks

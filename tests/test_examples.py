@@ -6,7 +6,7 @@ import unittest
 from looksleft import errors
 
 FOLDER = pathlib.Path(__file__).parent / "examples"
-NAMES = ["trees", "stores", "running", "books", "looks", "pictures", "histories"]
+NAMES = ["trees", "stores", "running", "books", "looks", "pictures", "histories", "ahead", "rows", "needs", "later"]
 
 
 def steps(text):

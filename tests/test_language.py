@@ -144,10 +144,15 @@ class TestLanguage(unittest.TestCase):
             "stores": "Store made_in written read_store", "running": "Running is_script run",
             "books": "is_books is_book_fault book_fault earliest is_moments script_of seen is_standing stand",
             "looks": "Look borders is_looks count_look", "pictures": "arrows is_picture picture looks_fit",
-            "histories": "is_fitting history is_history"}
+            "histories": "is_fitting history is_history",
+            "ahead": "ahead is_ahead verdict why_ahead is_paper behind_books closed with_lot",
+            "rows": "count_rows is_row row_of open_pairs row_at row_books",
+            "needs": "needless needs stretch apart is_needs is_apart",
+            "later": "no_later is_no_later why_no_later is_why_no_later earlier_standing"}
         methods = {"Tree": "__init__ __len__ __contains__ __eq__ line", "Store": "__init__ __len__ __eq__ line",
                    "Running": "__init__ make hand book under_way shows finished script settle",
                    "Look": "__init__ __len__ __contains__ __iter__ __eq__ come"}
+        self.assertLessEqual(set(listed), {path.stem for path in files()})
         for path, tree in files().items():
             here = {node.name: node for node in tree.body if isinstance(node, (ast.FunctionDef, ast.ClassDef))}
             for name in listed.get(path.stem, "").split():

@@ -26,6 +26,11 @@ def nested(deep):
     return value
 
 
+def no_numbers():
+    """Values that are never taken for a house, a write or an index, and one number that is too great for any."""
+    return [None, True, False, "", "0", [], (), {}, [0], (0,), {"0": 0}, 10 ** 19, line_tree(2)]
+
+
 def odd_values():
     """Values of all kinds that callers may pass as any value."""
     tree = line_tree(3)
