@@ -1,7 +1,7 @@
 """Which of two writes surely came to a house first, and the papers that show it."""
 
 from looksleft.errors import NotAhead, SameWrite, SurelyAhead, TooManyLooks
-from looksleft.looks import MOST_LOOKS, Look
+from looksleft.looks import MOST_LOOKS, look_of_lot
 from looksleft.order import arrow_table, bits_of, fill_books, pairs_of, sure_at, with_all_ahead, writes_of
 from looksleft.pictures import arrow_border, check_asked, is_arrow, is_border
 from looksleft.stores import check_lot, check_write, is_write
@@ -96,6 +96,16 @@ def shows_ahead(store, looks, house, x, z, value):
     return value[0] == "two" and _are_two_arrows(store, looks, x, z, value)
 
 
+def paper_unless_same(store, looks, house, x, z):
+    """None for the same write twice, and otherwise a paper, if there is one."""
+    return None if x == z else find_paper(store, looks, house, x, z)
+
+
+def is_paper_unless_same(store, looks, house, x, z, value):
+    """Whether a value is None for the same write twice, and otherwise a paper."""
+    return value is None if x == z else shows_ahead(store, looks, house, x, z, value)
+
+
 def _are_two_arrows(store, looks, x, z, value):
     _, q, border, w, other = value
     if not is_write(store, w) or not is_border(looks, other):
@@ -110,7 +120,8 @@ def behind_books(store, looks, house, x, z):
     if _has(sure[z], x):
         raise SurelyAhead(x, z)
     # x is not among those ahead of z, so it may come behind all of them.
-    return fill_books(store, list(looks) + [Look(house, [writes_of(with_all_ahead(sure, 1 << z))])])
+    come = writes_of(with_all_ahead(sure, 1 << z))
+    return fill_books(store, list(looks) + [look_of_lot(house, come, None)])
 
 
 def closed(store, looks, house, lot):
@@ -126,4 +137,4 @@ def with_lot(store, looks, house, lot):
     many = len(looks) + 1
     if many > MOST_LOOKS:
         raise TooManyLooks(many)
-    return list(looks) + [Look(house, [come] if come else [])]
+    return list(looks) + [look_of_lot(house, come, None)]

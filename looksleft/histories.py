@@ -4,7 +4,8 @@ from looksleft.books import book_fault, deed_of, is_books, lines_in_order
 from looksleft.checks import is_between, is_list
 from looksleft.errors import Stopped
 from looksleft.looks import Look, borders, check_looks
-from looksleft.order import fill_books, least_bits, sure_everywhere, writes_of
+from looksleft.lots import least_cut
+from looksleft.order import fill_books, sure_everywhere, writes_of
 from looksleft.pictures import check_looks_fit
 from looksleft.running import is_script, run
 
@@ -30,16 +31,11 @@ def history(store, looks):
 def find_history(store, looks):
     """The tuple that history returns, for looks that fit, of which there may be any number."""
     moments = sorted({look.moment for look in looks if look.moment is not None})
-    books, script, stops = history_by_cuts(store, looks, _least_cuts(store, looks, moments))
+    sure = sure_everywhere(store, looks)
+    cuts = [least_cut(store, looks, sure, moment) for moment in moments]
+    books, script, stops = history_by_cuts(store, looks, cuts)
     stop_of = dict(zip(moments, stops))
     return (books, script, [stop_of.get(look.moment) for look in looks])
-
-
-def _least_cuts(store, looks, moments):
-    """For each moment the list of the bits of the least lots that can have come to all houses."""
-    sure = sure_everywhere(store, looks)
-    return [[least_bits(store, looks, sure[house], house, moment) for house in range(store.tree.houses)]
-            for moment in moments]
 
 
 def history_by_cuts(store, looks, cuts):

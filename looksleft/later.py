@@ -1,6 +1,6 @@
 """Which write surely came to one house no later than another write came to another house."""
 
-from looksleft.ahead import find_paper, shows_ahead
+from looksleft.ahead import is_paper_unless_same, paper_unless_same
 from looksleft.errors import NotSure, Sure
 from looksleft.histories import history_by_cuts
 from looksleft.looks import Look, check_looks
@@ -59,12 +59,9 @@ def why_no_later(store, looks, house, other, x, z):
     sure = sure_at(store, bare, house)
     for y in writes_of(_joining(store, bare, house, other)[z]):
         if with_all_ahead(sure, 1 << y) >> x & 1:
-            return (y, _step_paper(store, bare, house, x, y), _step_paper(store, bare, other, y, z))
+            first = paper_unless_same(store, bare, house, x, y)
+            return (y, first, paper_unless_same(store, bare, other, y, z))
     raise NotSure(x, z)
-
-
-def _step_paper(store, looks, house, x, z):
-    return None if x == z else find_paper(store, looks, house, x, z)
 
 
 def is_why_no_later(store, looks, house, other, x, z, value):
@@ -75,11 +72,9 @@ def is_why_no_later(store, looks, house, other, x, z, value):
     y, first, second = value
     if not passing(store, other)[house] >> y & 1:
         return False
-    return _is_step(store, bare, house, x, y, first) and _is_step(store, bare, other, y, z, second)
-
-
-def _is_step(store, looks, house, x, z, value):
-    return value is None if x == z else shows_ahead(store, looks, house, x, z, value)
+    if not is_paper_unless_same(store, bare, house, x, y, first):
+        return False
+    return is_paper_unless_same(store, bare, other, y, z, second)
 
 
 def earlier_standing(store, looks, house, other, x, z):

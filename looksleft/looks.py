@@ -8,6 +8,12 @@ from looksleft.trees import check_house
 MOST_LOOKS = 9
 
 
+def check_moment(moment):
+    """Refuse a value that is not an integer."""
+    if not is_whole(moment):
+        raise InvalidMoment(moment)
+
+
 class Look:
     """A look; it never changes."""
 
@@ -16,8 +22,8 @@ class Look:
             raise InvalidHouse(house)
         if not _are_lots(lots):
             raise InvalidLots(lots)
-        if moment is not None and not is_whole(moment):
-            raise InvalidMoment(moment)
+        if moment is not None:
+            check_moment(moment)
         self.house = house
         self.lots = tuple([tuple(sorted(lot)) for lot in lots])
         self.moment = moment
@@ -77,13 +83,18 @@ def check_looks(store, looks):
         raise InvalidLooks(looks)
 
 
+def look_of_lot(house, lot, moment):
+    """The look at which just the writes of a lot had come: in one lot, and without lots if there are none."""
+    return Look(house, [lot] if lot else [], moment=moment)
+
+
 def count_look(store, house, firsts, *, moment=None):
     """The look at which, of the writes of each house, just the first so many had come."""
     check_house(store.tree, house)
     if not _are_firsts(store, firsts):
         raise InvalidFirsts(firsts)
     come = [write for home, many in enumerate(firsts) for write in made_in(store, home)[:many]]
-    return Look(house, [come] if come else [], moment=moment)
+    return look_of_lot(house, come, moment)
 
 
 def _are_firsts(store, value):

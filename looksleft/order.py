@@ -20,6 +20,11 @@ def writes_of(bits):
     return [write for write in range(bits.bit_length()) if bits >> write & 1]
 
 
+def without(bits, other):
+    """The bits of a lot that are none of another lot."""
+    return bits ^ bits & other
+
+
 def pairs_of(row):
     """The tuples (x, z) for all bits x of all items z of a row of bits."""
     return [(x, z) for z, bits in enumerate(row) for x in writes_of(bits)]
@@ -115,12 +120,3 @@ def fill_books(store, looks):
         add_arrows(store, table, Look(house, [[write] for write in row]))
         books.append(row)
     return books
-
-
-def least_bits(store, looks, sure, house, moment):
-    """The bits of the least lot that can have come to the house by the moment."""
-    bits = 0
-    for look in looks:
-        if look.moment is not None and look.moment <= moment:
-            bits = bits | bits_of(look.come) & passing(store, look.house)[house]
-    return with_all_ahead(sure, bits)

@@ -106,3 +106,9 @@ def unfit_looks(seed, many):
     for search, looks in some_looks(seed, many):
         if not search.ends(looks):
             yield search.store, looks
+
+
+def equal_ones(store, looks):
+    """A store and a tuple of looks, new ones that are equal to the given ones."""
+    again = Store(Tree(store.tree.houses, list(store.tree.roads)), list(store.homes), cells=list(store.cells))
+    return again, tuple(Look(look.house, [list(lot)[::-1] for lot in look.lots], moment=look.moment) for look in looks)

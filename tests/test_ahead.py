@@ -5,10 +5,9 @@ import random
 import unittest
 
 from looksleft.ahead import ahead, behind_books, closed, is_ahead, is_paper, verdict, why_ahead, with_lot
-from looksleft.errors import DoNotFit, InvalidHouse, InvalidLooks, InvalidLot, InvalidWrite, NotAhead, SameWrite
+from looksleft.errors import InvalidHouse, InvalidLot, InvalidWrite, NotAhead, SameWrite
 from looksleft.errors import SurelyAhead, TooManyLooks
 from looksleft.looks import Look
-from looksleft.pictures import is_picture
 from looksleft.stores import Store
 from looksleft.trees import Tree
 from tests import brute, cases
@@ -115,17 +114,11 @@ class TestErrors(LooksleftCase):
                 (with_lot, (store, looks, house, [x]))]
 
     def test_looks_first(self):
-        for wrong in (None, 3, "", {}, [Look(4, [])], [Look(0, [[3]])], [Look(0, [])] * 10, UNFIT * 5, [None], LOOKS[0]):
-            for function, args in self.calls(STAR, wrong, -1, None, None):
-                self.refuses_given(InvalidLooks, wrong, function, *args)
+        self.refuses_wrong_looks(lambda wrong: self.calls(STAR, wrong, -1, None, None))
 
     def test_looks_that_do_not_fit(self):
-        for store, looks in list(cases.unfit_looks(54, 60)) + [(STAR, UNFIT)]:
-            for function, args in self.calls(store, looks, True, None, None):
-                with self.assertRaises(DoNotFit) as caught:
-                    function(*args)
-                self.assertEqual(list(vars(caught.exception)), ["picture"])
-                self.assertIs(is_picture(store, looks, caught.exception.picture), True)
+        lists = [*cases.unfit_looks(54, 60), (STAR, UNFIT)]
+        self.refuses_unfit_looks(lists, lambda store, looks: self.calls(store, looks, True, None, None))
 
     def test_houses(self):
         for house in no_numbers() + [-1, 4]:
@@ -310,9 +303,7 @@ class TestArguments(LooksleftCase):
         lists = [(search.store, looks) for search, looks, _ in cases.fitting_looks(59, 150, 15)]
         first = [self.answers(*told) for told in lists]
         for (store, looks), answer in reversed(list(zip(lists, first))):
-            store = Store(Tree(store.tree.houses, list(store.tree.roads)), list(store.homes), cells=list(store.cells))
-            looks = tuple(Look(look.house, [list(lot)[::-1] for lot in look.lots], moment=look.moment) for look in looks)
-            self.assertEqual(self.answers(store, looks), answer)
+            self.assertEqual(self.answers(*cases.equal_ones(store, looks)), answer)
 
     def answers(self, store, looks):
         found = []

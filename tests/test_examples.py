@@ -6,7 +6,8 @@ import unittest
 from looksleft import errors
 
 FOLDER = pathlib.Path(__file__).parent / "examples"
-NAMES = ["trees", "stores", "running", "books", "looks", "pictures", "histories", "ahead", "rows", "needs", "later"]
+NAMES = ["trees", "stores", "running", "books", "looks", "pictures", "histories", "ahead", "rows", "needs", "later",
+         "come", "reasons", "shown", "pasts"]
 
 
 def steps(text):

@@ -148,7 +148,11 @@ class TestLanguage(unittest.TestCase):
             "ahead": "ahead is_ahead verdict why_ahead is_paper behind_books closed with_lot",
             "rows": "count_rows is_row row_of open_pairs row_at row_books",
             "needs": "needless needs stretch apart is_needs is_apart",
-            "later": "no_later is_no_later why_no_later is_why_no_later earlier_standing"}
+            "later": "no_later is_no_later why_no_later is_why_no_later earlier_standing",
+            "come": "least greatest can_have fate count_lots lot_at",
+            "reasons": "why_come why_missing is_why_come is_why_missing have_history",
+            "shown": "shown shown_history at_last last_books common sure_common common_books",
+            "pasts": "least_past greatest_past is_past can_be_past past_picture"}
         methods = {"Tree": "__init__ __len__ __contains__ __eq__ line", "Store": "__init__ __len__ __eq__ line",
                    "Running": "__init__ make hand book under_way shows finished script settle",
                    "Look": "__init__ __len__ __contains__ __iter__ __eq__ come"}

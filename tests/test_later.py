@@ -5,7 +5,7 @@ import random
 import unittest
 
 from looksleft.ahead import ahead
-from looksleft.errors import DoNotFit, InvalidHouse, InvalidLooks, InvalidWrite, NotSure, Sure
+from looksleft.errors import DoNotFit, InvalidHouse, InvalidWrite, NotSure, Sure
 from looksleft.later import earlier_standing, is_no_later, is_why_no_later, no_later, why_no_later
 from looksleft.looks import Look
 from looksleft.pictures import is_picture
@@ -18,7 +18,6 @@ from tests.tools import LooksleftCase, line_tree, no_numbers, odd_values, star_t
 STORE = Store(line_tree(2), [1, 0, 1])
 LOOKS = [Look(0, [[0], [1]]), Look(1, [[0], [1]])]
 STAR = Store(star_tree(4), [1, 2, 3])
-UNFIT = [Look(0, [[0]]), Look(0, [[1]])]
 
 
 def free_cases(seed, many, greater=0):
@@ -183,9 +182,7 @@ class TestErrors(LooksleftCase):
                 (earlier_standing, (store, looks, house, other, x, z))]
 
     def test_looks_first(self):
-        for wrong in (None, {}, "", 0, [Look(4, [])], [Look(0, [[3]])], [Look(0, [])] * 10, UNFIT * 5, [[0]]):
-            for function, args in self.calls(STAR, wrong, -1, -1, -1, -1):
-                self.refuses_given(InvalidLooks, wrong, function, *args)
+        self.refuses_wrong_looks(lambda wrong: self.calls(STAR, wrong, -1, -1, -1, -1))
 
     def test_pictures_mind_no_moments(self):
         many = 0
@@ -242,9 +239,7 @@ class TestArguments(LooksleftCase):
         lists = [(search.store, looks) for search, looks, _, _ in free_cases(87, 60)]
         first = [self.answers(*told) for told in lists]
         for (store, looks), answer in reversed(list(zip(lists, first))):
-            store = Store(Tree(store.tree.houses, list(store.tree.roads)), list(store.homes), cells=list(store.cells))
-            looks = tuple(Look(look.house, [list(lot)[::-1] for lot in look.lots], moment=look.moment) for look in looks)
-            self.assertEqual(self.answers(store, looks), answer)
+            self.assertEqual(self.answers(*cases.equal_ones(store, looks)), answer)
 
     def answers(self, store, looks):
         found = []

@@ -6,12 +6,10 @@ import random
 import unittest
 
 from looksleft.ahead import ahead
-from looksleft.errors import DoNotFit, InvalidHouse, InvalidIndex, InvalidLooks, InvalidRow
+from looksleft.errors import InvalidHouse, InvalidIndex, InvalidRow
 from looksleft.looks import Look
-from looksleft.pictures import is_picture
 from looksleft.rows import count_rows, is_row, open_pairs, row_at, row_books, row_of
 from looksleft.stores import Store
-from looksleft.trees import Tree
 from tests import brute, cases
 from tests.tools import LooksleftCase, line_tree, no_numbers, odd_values, star_tree
 
@@ -112,16 +110,11 @@ class TestErrors(LooksleftCase):
                 (row_books, (store, looks, house, row))]
 
     def test_looks_first(self):
-        for wrong in (None, {}, "", 0, [Look(4, [])], [Look(0, [])] * 10, UNFIT * 5, [[0]]):
-            for function, args in self.calls(STAR, wrong, -1, -1):
-                self.refuses_given(InvalidLooks, wrong, function, *args)
+        self.refuses_wrong_looks(lambda wrong: self.calls(STAR, wrong, -1, -1))
 
     def test_looks_that_do_not_fit(self):
-        for store, looks in list(cases.unfit_looks(65, 40)) + [(STAR, UNFIT)]:
-            for function, args in self.calls(store, looks, -1, -1):
-                with self.assertRaises(DoNotFit) as caught:
-                    function(*args)
-                self.assertIs(is_picture(store, looks, caught.exception.picture), True)
+        lists = [*cases.unfit_looks(65, 40), (STAR, UNFIT)]
+        self.refuses_unfit_looks(lists, lambda store, looks: self.calls(store, looks, -1, -1))
 
     def test_houses(self):
         for house in no_numbers() + [-1, 4]:
@@ -151,9 +144,7 @@ class TestArguments(LooksleftCase):
         lists = [(search.store, looks) for search, looks, _ in cases.fitting_looks(66, 120, 10)]
         first = [self.answers(*told) for told in lists]
         for (store, looks), answer in reversed(list(zip(lists, first))):
-            store = Store(Tree(store.tree.houses, list(store.tree.roads)), list(store.homes), cells=list(store.cells))
-            looks = tuple(Look(look.house, look.lots, moment=look.moment) for look in looks)
-            self.assertEqual(self.answers(store, looks), answer)
+            self.assertEqual(self.answers(*cases.equal_ones(store, looks)), answer)
 
     def answers(self, store, looks):
         return [(count_rows(store, looks, house), row_books(store, looks, house, row_at(store, looks, house, 0)),

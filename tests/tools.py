@@ -3,7 +3,9 @@
 import copy
 import unittest
 
+from looksleft.errors import DoNotFit, InvalidLooks
 from looksleft.looks import Look
+from looksleft.pictures import is_picture
 from looksleft.running import Running
 from looksleft.stores import Store
 from looksleft.trees import Tree
@@ -68,6 +70,21 @@ class LooksleftCase(unittest.TestCase):
         self.assertEqual(type(caught.exception), error)
         self.assertEqual(list(vars(caught.exception)), ["given"])
         self.assertIs(caught.exception.given, given)
+
+    def refuses_wrong_looks(self, calls):
+        """Each of the calls, tuples (function, args) for a list of looks, refuses what is no list of looks."""
+        for wrong in (None, {}, "", 0, [Look(16, [])], [Look(0, [[12]])], [Look(0, [])] * 10, [[0]], [None], Look(0, [])):
+            for function, args in calls(wrong):
+                self.refuses_given(InvalidLooks, wrong, function, *args)
+
+    def refuses_unfit_looks(self, lists, calls):
+        """Each of the calls refuses looks that do not fit, with one of their pictures."""
+        for store, looks in lists:
+            for function, args in calls(store, looks):
+                with self.assertRaises(DoNotFit) as caught:
+                    function(*args)
+                self.assertEqual(list(vars(caught.exception)), ["picture"])
+                self.assertIs(is_picture(store, looks, caught.exception.picture), True)
 
     def unchanged(self, before, after):
         """Two values are equal, runnings counted by their scripts."""
