@@ -202,12 +202,23 @@ class TestPapers(LooksleftCase):
         looks = [Look(1, [[2], [0]])]
         self.assertIs(is_paper(store, looks, 1, 0, 1, ("own",)), True)
         self.assertIs(is_paper(store, looks, 1, 1, 0, ("own",)), False)
+        for value in odd_values() + [("Own",), ("one",), ("two",), (None,), (True,), ["own"], ("own", 0), (("own",),)]:
+            self.assertIs(is_paper(store, looks, 1, 0, 1, value), False, value)
         self.assertIs(is_paper(store, looks, 1, 2, 1, ("one", 1, (0, 1))), True)
         for value in (("one", 1, (0, True)), ("one", True, (0, 1)), ("one", 1, [0, 1]), ("one", 0, (0, 1)), ("one", 1, (0, 2)),
                       ["one", 1, (0, 1)], ("two", 1, (0, 1)), ("own",), ("one", 1, (1, 0))):
             self.assertIs(is_paper(store, looks, 1, 2, 1, value), False, value)
         for value in odd_values():
             self.assertIs(is_paper(store, looks, 1, 2, 1, value), False, value)
+
+    def test_a_write_between_that_is_true_or_false(self):
+        looks = [Look(3, [[0, 2]]), Look(1, [[0, 1], [2]])]
+        right = ("two", 0, (0, 0), 1, (1, 0))
+        self.assertIs(is_paper(STAR, looks, 0, 0, 2, right), True)
+        self.assertIs(is_paper(STAR, looks, 0, 0, 2, ("two", 0, (0, 0), True, (1, 0))), False)
+        looks = [Look(3, [[1, 2]]), Look(2, [[0, 1], [2]])]
+        self.assertIs(is_paper(STAR, looks, 0, 1, 2, ("two", 0, (0, 0), 0, (1, 0))), True)
+        self.assertIs(is_paper(STAR, looks, 0, 1, 2, ("two", 0, (0, 0), False, (1, 0))), False)
 
     def test_a_house_off_the_way_shows_nothing(self):
         # At house 0 and at house 2 an arrow leads from 0 to 1, but the way from the home of 1 to house 3 goes over 0 alone.
