@@ -68,12 +68,12 @@ def is_history(store, looks, value):
     if not isinstance(value, tuple) or len(value) != 3:
         return False
     books, script, places = value
-    if not is_fitting(store, looks, books) or not _has_books(store, script, books):
+    if not is_fitting(store, looks, books) or not has_books(store, script, books):
         return False
     return _are_places(looks, books, script, places)
 
 
-def _has_books(store, value, books):
+def has_books(store, value, books):
     """Whether a value is the script of a history that has these books."""
     if not is_script(store, value):
         return False
@@ -100,5 +100,10 @@ def _is_place(look, books, script, value):
         return value is None
     if not is_between(value, 0, len(script)):
         return False
-    many = len([deed for deed in script[:value] if deed[-1] == look.house])
-    return sorted(books[look.house][:many]) == list(look.come)
+    return come_behind(books, script, value, look.house) == list(look.come)
+
+
+def come_behind(books, script, place, house):
+    """The lot that has come to a house at a place of a script that has these books."""
+    many = len([deed for deed in script[:place] if deed[-1] == house])
+    return sorted(books[house][:many])

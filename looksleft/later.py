@@ -3,18 +3,15 @@
 from looksleft.ahead import is_paper_unless_same, paper_unless_same
 from looksleft.errors import NotSure, Sure
 from looksleft.histories import history_by_cuts
-from looksleft.looks import Look, check_looks
 from looksleft.order import pairs_of, passing, sure_at, with_all_ahead, writes_of
-from looksleft.pictures import check_fit
+from looksleft.pictures import bare_looks
 from looksleft.stores import check_write, is_write
 from looksleft.trees import check_house
 
 
 def _asked_looks(store, looks, house, other):
     """The looks without their moments, behind the checks that all functions here make first."""
-    check_looks(store, looks)
-    bare = [Look(look.house, look.lots) for look in looks]
-    check_fit(store, bare)
+    bare = bare_looks(store, looks)
     check_house(store.tree, house)
     check_house(store.tree, other)
     return bare

@@ -12,20 +12,35 @@ def asked_order(store, looks, house, moment):
     return sure_at(store, looks, house)
 
 
+def come_over(store, look, house):
+    """The writes that had come at the look over the house, so that they had come there no later."""
+    over = passing(store, look.house)[house]
+    return [write for write in look.come if over >> write & 1]
+
+
+def missing_over(store, look, house):
+    """The writes that had not come at the look, over whose house they come, so that they had not come there sooner."""
+    over = passing(store, house)[look.house]
+    return [write for write in writes_of(over) if write not in look]
+
+
 def told_come(store, look, house, moment):
     """The writes of which the look alone tells that they had come to the house by the moment."""
     if look.moment is None or look.moment > moment:
         return []
-    over = passing(store, look.house)[house]
-    return [write for write in look.come if over >> write & 1]
+    return come_over(store, look, house)
 
 
 def told_missing(store, look, house, moment):
     """The writes of which the look alone tells that they had not come to the house by the moment."""
     if look.moment is None or look.moment < moment:
         return []
-    over = passing(store, house)[look.house]
-    return [write for write in writes_of(over) if write not in look]
+    return missing_over(store, look, house)
+
+
+def all_without(sure, missing):
+    """The bits of all writes that are none of a lot and ahead of which none of the lot surely is."""
+    return bits_of([write for write in range(len(sure)) if not with_all_ahead(sure, 1 << write) & missing])
 
 
 def least_bits(store, looks, sure, house, moment):
@@ -37,7 +52,7 @@ def least_bits(store, looks, sure, house, moment):
 def greatest_bits(store, looks, sure, house, moment):
     """The bits of the greatest lot that can have come to the house by the moment."""
     missing = bits_of([write for look in looks for write in told_missing(store, look, house, moment)])
-    return bits_of([write for write in range(len(store)) if not with_all_ahead(sure, 1 << write) & missing])
+    return all_without(sure, missing)
 
 
 def least_cut(store, looks, sure, moment):

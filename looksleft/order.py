@@ -52,9 +52,11 @@ def add_arrows(store, table, look):
     over = passing(store, look.house)
     for ahead in borders(look):
         bits = bits_of(ahead)
-        for z in [write for write in range(len(store)) if write not in ahead]:
-            for house in range(store.tree.houses):
-                table[house][z] = table[house][z] | bits & over[house]
+        behind = [write for write in range(len(store)) if write not in ahead]
+        # At most houses no arrow of the border begins, so that it is worth the while to leave those out.
+        for house, begin in [(house, bits & told) for house, told in enumerate(over) if bits & told]:
+            for z in behind:
+                table[house][z] = table[house][z] | begin
 
 
 def _ahead_within_two(row, z):

@@ -2,7 +2,7 @@
 
 from looksleft.checks import is_between
 from looksleft.errors import DoNotFit
-from looksleft.looks import borders, check_looks
+from looksleft.looks import Look, borders, check_looks
 from looksleft.order import arrow_table, pairs_of, passing, writes_of
 from looksleft.stores import is_write
 from looksleft.trees import check_house, way
@@ -107,6 +107,11 @@ def is_sooner_by(store, look, other, write):
     return look.house in way(store.tree, store.homes[write], other.house)
 
 
+def sooner_writes(store, look, other):
+    """All writes that show that a look is sooner than another one."""
+    return [write for write in other.come if is_sooner_by(store, look, other, write)]
+
+
 def picture(store, looks):
     """A picture of the looks, or None."""
     check_looks(store, looks)
@@ -176,6 +181,14 @@ def check_looks_fit(store, looks):
     """Refuse a value that is not a list of looks of the store, and looks that do not fit."""
     check_looks(store, looks)
     check_fit(store, looks)
+
+
+def bare_looks(store, looks):
+    """The looks without their moments, behind the checks that they are looks of the store and fit without these."""
+    check_looks(store, looks)
+    bare = [Look(look.house, look.lots) for look in looks]
+    check_fit(store, bare)
+    return bare
 
 
 def check_asked(store, looks, house):

@@ -2,6 +2,7 @@
 
 from looksleft.checks import are_between, are_different, is_between, read_pair
 from looksleft.errors import InvalidCell, InvalidCells, InvalidHomes, InvalidLine, InvalidLot, InvalidWrite
+from looksleft.errors import NeverWritten
 from looksleft.trees import check_house, read_tree
 
 MOST_WRITES = 12
@@ -66,6 +67,12 @@ def written(store, cell):
     if not is_between(cell, 0, CELLS - 1):
         raise InvalidCell(cell)
     return [write for write, its_cell in enumerate(store.cells) if its_cell == cell]
+
+
+def check_written(store, cell):
+    """Refuse a value that is not a cell, and a cell that nobody wrote."""
+    if not written(store, cell):
+        raise NeverWritten(cell)
 
 
 def read_store(line):

@@ -5,11 +5,17 @@ with, for each house, the tuple of the writes that have come to it.
 """
 
 import functools
+import itertools
 
 
 def near(store):
-    found = {house: [] for house in range(store.tree.houses)}
-    for u, v in store.tree.roads:
+    return near_by(store.tree.houses, store.tree.roads)
+
+
+@functools.lru_cache(maxsize=None)
+def near_by(houses, roads):
+    found = {house: [] for house in range(houses)}
+    for u, v in roads:
         found[u].append(v)
         found[v].append(u)
     return found
@@ -57,6 +63,29 @@ def deeds(store, state):
 
 def put(state, house, write):
     return tuple(book + (write,) if at == house else book for at, book in enumerate(state))
+
+
+def states_of(store, script):
+    """The states ahead of, between and behind the deeds of a script, or None if they cannot be done."""
+    states = [start(store)]
+    for deed in script:
+        further = dict(deeds(store, states[-1]))
+        if deed not in further:
+            return None
+        states.append(further[deed])
+    return states
+
+
+def chance_script(store, chooser, books=None):
+    """Some script of a history, also of one with given books."""
+    state, script = start(store), []
+    while True:
+        further = [(deed, after) for deed, after in deeds(store, state)
+                   if books is None or after[deed[-1]] == tuple(books[deed[-1]][:len(after[deed[-1]])])]
+        if not further:
+            return script
+        deed, state = chooser.choice(further)
+        script.append(deed)
 
 
 class Search:
@@ -154,6 +183,42 @@ class Search:
                 yield after, done
         if done < len(moments) and all(set(state[look.house]) == come(look) for look in looks if look.moment == moments[done]):
             yield state, done + 1
+
+    def clock_cuts(self, looks, pairs, before=(), behind=()):
+        """All states where a further place can be, in a history that fits the looks and with a place for each look.
+
+        Moments are not minded. The places keep the pairs, and the further one stands between those of before and behind.
+        """
+        further = len(looks)
+        pairs = [*pairs, *((index, further) for index in before), *((further, index) for index in behind)]
+        steps = {}
+        todo = [(self.first, frozenset())]
+        while todo:
+            node = todo.pop()
+            if node not in steps:
+                steps[node] = list(self.clock_steps(looks, pairs, node))
+                todo += steps[node]
+        right = {(state, frozenset(range(further + 1))) for state in self.last} & set(steps)
+        for node in sorted(steps, key=lambda node: (sum(map(len, node[0])), len(node[1])), reverse=True):
+            if any(after in right for after in steps[node]):
+                right.add(node)
+        return {state for state, placed in right for after in steps[(state, placed)]
+                if after in right and further in after[1] and further not in placed}
+
+    def clock_steps(self, looks, pairs, node):
+        """The nodes (state, indices that have a place) behind a node; the index behind those of the looks goes anywhere."""
+        state, placed = node
+        left = [at for at in range(len(looks) + 1) if at not in placed]
+        for _, after in self.table[state]:
+            late = any(len(after[looks[at].house]) > len(come(looks[at])) for at in left if at < len(looks))
+            if not late and all(may_begin(look, after[look.house]) for look in looks):
+                yield after, placed
+        able = [at for at in left if at == len(looks) or set(state[looks[at].house]) == come(looks[at])]
+        for many in range(1, len(able) + 1):
+            for chosen in itertools.combinations(able, many):
+                both = placed | set(chosen)
+                if all(i in both for i, j in pairs if j in both):
+                    yield state, both
 
 
 def surely(ends, house):

@@ -152,7 +152,11 @@ class TestLanguage(unittest.TestCase):
             "come": "least greatest can_have fate count_lots lot_at",
             "reasons": "why_come why_missing is_why_come is_why_missing have_history",
             "shown": "shown shown_history at_last last_books common sure_common common_books",
-            "pasts": "least_past greatest_past is_past can_be_past past_picture"}
+            "pasts": "least_past greatest_past is_past can_be_past past_picture",
+            "whole": "past_history is_past_history resume",
+            "clocks": "sooner_pairs sooner_by is_pairs clock_ring is_clock_ring clock_history",
+            "partly": "least_by greatest_by can_have_by",
+            "balance": "last_lot own_lines exchanges copies parting"}
         methods = {"Tree": "__init__ __len__ __contains__ __eq__ line", "Store": "__init__ __len__ __eq__ line",
                    "Running": "__init__ make hand book under_way shows finished script settle",
                    "Look": "__init__ __len__ __contains__ __iter__ __eq__ come"}
