@@ -36,13 +36,27 @@ def book_fault(store, books):
             if _is_own_fault(store, lines, home, a, b):
                 return ("own", home, a, b)
     for u, v in both_ways(store.tree):
-        for a in range(len(store)):
-            for b in range(len(store)):
-                if _is_one_fault(store, lines, u, v, a, b):
-                    return ("one", u, v, a, b)
-                if _is_two_fault(store, lines, u, v, a, b):
-                    return ("two", u, v, a, b)
+        fault = _road_fault(store, lines, u, v)
+        if fault is not None:
+            return fault
     return None
+
+
+def _road_fault(store, lines, u, v):
+    """A fault with u as its first house and v as its second one, or None."""
+    near = [write for write, home in enumerate(store.homes) if on_side(store.tree, u, v, home)]
+    for a in near:
+        for b in range(len(store)):
+            if b in near and _are_turned(lines, u, v, a, b):
+                return ("one", u, v, a, b)
+            if b not in near and _are_turned(lines, u, v, b, a):
+                return ("two", u, v, a, b)
+    return None
+
+
+def _are_turned(lines, u, v, first, second):
+    """Whether of two writes the first one is ahead at u, and the second one at v."""
+    return lines[u][first] < lines[u][second] and lines[v][second] < lines[v][first]
 
 
 def is_book_fault(store, books, value):
@@ -80,13 +94,13 @@ def _is_own_fault(store, lines, house, a, b):
 def _is_one_fault(store, lines, u, v, a, b):
     if not on_side(store.tree, u, v, store.homes[a]) or not on_side(store.tree, u, v, store.homes[b]):
         return False
-    return lines[u][a] < lines[u][b] and lines[v][b] < lines[v][a]
+    return _are_turned(lines, u, v, a, b)
 
 
 def _is_two_fault(store, lines, u, v, a, b):
     if not on_side(store.tree, u, v, store.homes[a]) or not on_side(store.tree, v, u, store.homes[b]):
         return False
-    return lines[u][b] < lines[u][a] and lines[v][a] < lines[v][b]
+    return _are_turned(lines, u, v, b, a)
 
 
 def origin(store, house, write):

@@ -4,7 +4,6 @@ A lot of writes is told as an integer here, its bits: bit w is set if the write 
 """
 
 from looksleft.looks import Look, borders
-from looksleft.trees import way
 
 
 def bits_of(writes):
@@ -34,7 +33,7 @@ def passing(store, target):
     """For each house the bits of the writes for which it is on the way from their home to the target."""
     over = [0] * store.tree.houses
     for write, home in enumerate(store.homes):
-        for house in way(store.tree, home, target):
+        for house in store.tree.passed(home, target):
             over[house] = over[house] | 1 << write
     return over
 
@@ -53,10 +52,12 @@ def add_arrows(store, table, look):
     for ahead in borders(look):
         bits = bits_of(ahead)
         behind = [write for write in range(len(store)) if write not in ahead]
-        # At most houses no arrow of the border begins, so that it is worth the while to leave those out.
-        for house, begin in [(house, bits & told) for house, told in enumerate(over) if bits & told]:
-            for z in behind:
-                table[house][z] = table[house][z] | begin
+        for house in range(store.tree.houses):
+            begin = bits & over[house]
+            # At most houses no arrow of the border begins; to leave these out saves much of the time.
+            if begin:
+                for z in behind:
+                    table[house][z] = table[house][z] | begin
 
 
 def _ahead_within_two(row, z):
@@ -71,8 +72,8 @@ def surely_ahead(store, table, house):
     """For each write z the bits of the writes that are surely ahead of z at the house, if the looks fit."""
     found = [bits_of([x for x in range(z) if store.homes[x] == home]) for z, home in enumerate(store.homes)]
     for z, home in enumerate(store.homes):
-        for passed in way(store.tree, home, house):
-            found[z] = found[z] | _ahead_within_two(table[passed], z)
+        for q in store.tree.passed(home, house):
+            found[z] = found[z] | _ahead_within_two(table[q], z)
     return found
 
 

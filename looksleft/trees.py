@@ -22,6 +22,8 @@ class Tree:
         self.houses = houses
         self.roads = tuple(roads)
         self._toward = toward
+        # Ways are asked for so often that it is worth the while to walk each one but once.
+        self._ways = [[_walk(steps, house) for house in range(houses)] for steps in toward]
 
     def __len__(self):
         return len(self._toward)
@@ -39,6 +41,10 @@ class Tree:
     def step(self, house, target):
         """The next house on the way from a house to a target; the house itself if it is the target."""
         return self._toward[target][house]
+
+    def passed(self, house, target):
+        """The houses on the way from a house to a target, in their order."""
+        return self._ways[target][house]
 
 
 def _are_roads(houses, value):
@@ -76,6 +82,14 @@ def _steps_to(near, target):
                 steps[further] = house
                 reached.append(further)
     return steps
+
+
+def _walk(steps, house):
+    """The houses on the way from a house to the target of some steps."""
+    passed = [house]
+    while steps[passed[-1]] != passed[-1]:
+        passed.append(steps[passed[-1]])
+    return tuple(passed)
 
 
 def check_house(tree, house):
@@ -117,10 +131,7 @@ def way(tree, a, b):
     """The houses on the way from a to b, in their order."""
     check_house(tree, a)
     check_house(tree, b)
-    passed = [a]
-    while passed[-1] != b:
-        passed.append(tree.step(passed[-1], b))
-    return tuple(passed)
+    return tree.passed(a, b)
 
 
 def distance(tree, a, b):

@@ -7,7 +7,7 @@ from looksleft import errors
 
 FOLDER = pathlib.Path(__file__).parent / "examples"
 NAMES = ["trees", "stores", "running", "books", "looks", "pictures", "histories", "ahead", "rows", "needs", "later",
-         "come", "reasons", "shown", "pasts", "whole", "clocks", "partly", "balance"]
+         "come", "reasons", "shown", "pasts", "whole", "clocks", "partly", "balance", "tables", "asks", "desk", "journal"]
 
 
 def steps(text):

@@ -156,10 +156,13 @@ class TestLanguage(unittest.TestCase):
             "whole": "past_history is_past_history resume",
             "clocks": "sooner_pairs sooner_by is_pairs clock_ring is_clock_ring clock_history",
             "partly": "least_by greatest_by can_have_by",
-            "balance": "last_lot own_lines exchanges copies parting"}
+            "balance": "last_lot own_lines exchanges copies parting",
+            "tables": "is_last_table count_last_tables table_books",
+            "asks": "is_answers verdict_of next_ask alone parted_books", "desk": "Desk", "journal": "read_desk"}
         methods = {"Tree": "__init__ __len__ __contains__ __eq__ line", "Store": "__init__ __len__ __eq__ line",
                    "Running": "__init__ make hand book under_way shows finished script settle",
-                   "Look": "__init__ __len__ __contains__ __iter__ __eq__ come"}
+                   "Look": "__init__ __len__ __contains__ __iter__ __eq__ come",
+                   "Desk": "__init__ looks add drop undo redo tried ahead least greatest shown past lines"}
         self.assertLessEqual(set(listed), {path.stem for path in files()})
         for path, tree in files().items():
             here = {node.name: node for node in tree.body if isinstance(node, (ast.FunctionDef, ast.ClassDef))}

@@ -69,7 +69,7 @@ class TestNeedless(LooksleftCase):
 
     def test_against_all_histories(self):
         kinds = set()
-        for search, looks, _ in cases.fitting_looks(71, 500, 25):
+        for search, looks, _ in cases.fitting_looks(71, 350, 15):
             expected = told_needless(search, looks)
             self.assertEqual(needless(search.store, looks), expected)
             kinds.add((bool(expected), len(expected) < len(looks)))
